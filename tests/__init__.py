@@ -1,0 +1,1 @@
+"""Tests of treecuts; run them from the repository's top."""
