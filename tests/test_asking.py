@@ -2,25 +2,10 @@
 
 import unittest
 
-from tests.helper import (EMPTIES, SUMS, SUM_TEXT, SUM_TREE, TEXT, TREE, ask, chain, grammar_row, hold, kids, last,
-                          load, of, piece, under, up)
+from tests.helper import (EMPTIES, MIX, MIXED_TEXT, MIXED_TREE, SUM, SUMS, SUM_TEXT, SUM_TREE, TALL, TEXT, TREE, ask,
+                          chain, grammar_row, hold, kids, last, load, of, piece, under, up)
 
-SUM = [load(SUMS), hold(SUM_TEXT, SUM_TREE)]
-
-# 0 -> 1 x 2 1, 1 -> 2, 1 -> 1 1, 2 -> no symbols, 2 -> y: children of several nonterminals, with a byte between.
-MIXED = grammar_row(3, [(0, [(1,), (120, 120), (2,), (1,)]), (1, [(2,)]), (1, [(1,), (1,)]), (2, []),
-                        (2, [(121, 121)])])
-MIXED_TEXT = [121, 120, 121]
-MIXED_TREE = [0, 0, 3,
-              2, 0, 1,
-              1, 0, 0, 3, 0, 0,
-              1, 0, 1, 4, 0, 1,
-              4, 2, 3,
-              1, 3, 3, 3, 3, 3]
-MIX = [load(MIXED), hold(MIXED_TEXT, MIXED_TREE)]
 MIXED_KIDS = [[1, 6, 7], [2, 4], [3], [], [5], [], [], [8], []]
-
-TALL = [load(EMPTIES), hold([], chain(500))]
 
 
 class TreeAndText(unittest.TestCase):

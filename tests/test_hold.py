@@ -3,22 +3,12 @@
 import itertools
 import unittest
 
-from tests.helper import (EMPTIES, SUMS, SUM_TEXT, SUM_TREE, TEXT, TREE, ask, chain, grammar_row, hold, last, load,
-                          part)
+from tests.helper import (EMPTIES, LETTERS, SUMS, SUM_TEXT, SUM_TREE, TEXT, TREE, ask, chain, grammar_row, hold, last,
+                          letters_tree, load, part, trees_by_the_words)
 from treecuts.desk import answers
 
 # 0 -> 1 b, 1 -> no symbols, 1 -> a: the start has one rule, which is not the only one.
 TWO_STEPS = grammar_row(2, [(0, [(1,), (98, 98)]), (1, []), (1, [(97, 97)])])
-
-# 0 -> a to z, then 0; 0 -> no symbols.
-LETTERS = grammar_row(1, [(0, [(97, 122), (0,)]), (0, [])])
-
-
-def letters_tree(count):
-    tree = []
-    for place in range(count):
-        tree += [0, place, count]
-    return tree + [1, count, count]
 
 
 class Taken(unittest.TestCase):
@@ -178,34 +168,6 @@ class NoTreeOfTheStart(unittest.TestCase):
         for octets, tree, refusal in [([256], [], -1), ([97] * 25, [], -3), ([97], [1], -9), ([97], [0, 0, 1], -9)]:
             told = ask(load(SUMS), hold(SUM_TEXT, SUM_TREE), hold(octets, tree), TEXT, TREE)
             self.assertEqual(told[2:], [[refusal], [0] + SUM_TEXT, [0, 5] + SUM_TREE])
-
-
-def trees_by_the_words(rules, nonterminal, text, begin, end, most):
-    """All trees of the nonterminal over the piece with at most so many nodes, by the document's words."""
-    found = []
-    for number, (owner, symbols) in enumerate(rules):
-        if owner == nonterminal and most > 0:
-            for beneath in rows_by_the_words(rules, symbols, text, begin, end, most - 1):
-                found.append(((number, begin, end),) + beneath)
-    return found
-
-
-def rows_by_the_words(rules, symbols, text, begin, end, most):
-    if not symbols:
-        return [()] if begin == end else []
-    found = []
-    for middle in range(begin, end + 1):
-        for first in symbol_by_the_words(rules, symbols[0], text, begin, middle, most):
-            for others in rows_by_the_words(rules, symbols[1:], text, middle, end, most - len(first)):
-                found.append(first + others)
-    return found
-
-
-def symbol_by_the_words(rules, symbol, text, begin, end, most):
-    if len(symbol) == 1:
-        return trees_by_the_words(rules, symbol[0], text, begin, end, most)
-    covered = end - begin == 1 and symbol[0] <= text[begin] <= symbol[1]
-    return [()] if covered else []
 
 
 class EverySmallTree(unittest.TestCase):

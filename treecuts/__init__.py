@@ -1,1 +1,1 @@
-"""Trees of a grammar, asked by the numbers of their nodes; the calls are answered in treecuts.desk."""
+"""Trees of a grammar: asked, cut out, replaced, swapped, compared; the calls are answered in treecuts.desk."""

@@ -50,8 +50,29 @@ class NoSuchNode(Refusal):
         Refusal.__init__(self, -7)
 
 
+class TooManyNodes(Refusal):
+    """A tree would have more nodes than a tree may have."""
+
+    def __init__(self):
+        Refusal.__init__(self, -8)
+
+
 class NotSuchTree(Refusal):
     """The numbers don't tell the nodes of a tree such as is asked for."""
 
     def __init__(self):
         Refusal.__init__(self, -9)
+
+
+class NotToBeSwapped(Refusal):
+    """The two nodes are not such that their trees could change places."""
+
+    def __init__(self):
+        Refusal.__init__(self, -10)
+
+
+class NoTreeBefore(Refusal):
+    """There is nothing to undo."""
+
+    def __init__(self):
+        Refusal.__init__(self, -11)
